@@ -18,13 +18,14 @@ type row struct {
 	e   api.Errno
 }
 
-// check also tests that bytes behind a stream are found, and that bytes behind a fault change nothing.
+// check also feeds the streams in pieces (P3), and tests that bytes behind a stream are found, and that bytes behind a fault change nothing.
 func check(t *testing.T, rows []row) {
 	t.Helper()
 	for _, c := range rows {
 		if out, e := wring.Decode(c.s); out != c.out || e != c.e {
 			t.Errorf("P2: %s: Decode(%x) = %q, %d, want %q, %d", c.why, c.s, out, e, c.out, c.e)
 		}
+		checkPieces(t, c.s, c.out, c.e)
 		behind := c.e
 		if c.e == api.OK {
 			behind = api.ErrTrailing

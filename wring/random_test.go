@@ -216,25 +216,31 @@ func TestRandomCuts(t *testing.T) {
 	}
 }
 
+// spoil turns bits of a stream, puts bytes in and takes some out.
+func spoil(r *rand.Rand, s string) string {
+	b := []byte(s)
+	for range 1 + r.Intn(3) {
+		i := r.Intn(len(b))
+		switch r.Intn(4) {
+		case 0:
+			b = append(b[:i], append([]byte{byte(r.Intn(256))}, b[i:]...)...)
+		case 1:
+			b = append(b[:i:i], b[min(i+1, len(b)-1):]...)
+		default:
+			b[i] ^= 1 << r.Intn(8)
+		}
+	}
+	return string(b)
+}
+
 // TestRandomFaults: streams with bits turned, bytes put in or taken out, cut or not.
 func TestRandomFaults(t *testing.T) {
 	r := rand.New(rand.NewSource(3))
 	for range 4000 {
 		s, _ := randomStream(r)
-		b := []byte(s)
-		for range 1 + r.Intn(3) {
-			i := r.Intn(len(b))
-			switch r.Intn(4) {
-			case 0:
-				b = append(b[:i], append([]byte{byte(r.Intn(256))}, b[i:]...)...)
-			case 1:
-				b = append(b[:i:i], b[min(i+1, len(b)-1):]...)
-			default:
-				b[i] ^= 1 << r.Intn(8)
-			}
-		}
-		same(t, string(b))
-		same(t, string(b[:r.Intn(len(b)+1)]))
+		s = spoil(r, s)
+		same(t, s)
+		same(t, s[:r.Intn(len(s)+1)])
 	}
 }
 

@@ -7,7 +7,10 @@ import (
 )
 
 // Decoder reads a stream that comes in pieces.
-type Decoder struct{}
+type Decoder struct {
+	reader *reader.Reader // nil behind Close: what it keeps is wanted no more
+	said   api.Errno      // what Close said
+}
 
 // Encoder makes a stream out of what is written.
 type Encoder struct{}
@@ -20,13 +23,26 @@ func Decode(s string) (string, api.Errno) {
 }
 
 // NewDecoder makes a decoder (P3).
-func NewDecoder() *Decoder { return nil }
+func NewDecoder() *Decoder {
+	return &Decoder{reader: reader.New()}
+}
 
 // Feed takes the next piece of a stream (P3).
-func (x *Decoder) Feed(s string) string { return "" }
+func (x *Decoder) Feed(s string) string {
+	if x.reader == nil {
+		return ""
+	}
+	return x.reader.Read(s)
+}
 
 // Close tells what was wrong, if anything was (P3).
-func (x *Decoder) Close() api.Errno { return api.OK }
+func (x *Decoder) Close() api.Errno {
+	if x.reader != nil {
+		x.said = x.reader.Errno()
+		x.reader = nil
+	}
+	return x.said
+}
 
 // NewEncoder makes an encoder (P4).
 func NewEncoder(window int, level int) (*Encoder, api.Errno) { return nil, api.OK }
