@@ -14,13 +14,20 @@ type model struct {
 	window int
 	out    []byte
 	last4  []int
+	notes  []string // those that are whole
+	begins []int    // the bits where blocks begin, or would begin
 }
 
 // modelDecode is what Decode is measured by.
-func modelDecode(s string) (out string, e api.Errno) {
-	m := &model{s: s, last4: []int{1, 2, 3, 4}}
+func modelDecode(s string) (string, api.Errno) {
+	m, e := modelRead(s)
+	return string(m.out), e
+}
+
+// modelRead also tells what Decode does not.
+func modelRead(s string) (m *model, e api.Errno) {
+	m = &model{s: s, last4: []int{1, 2, 3, 4}}
 	defer func() {
-		out = string(m.out)
 		if r := recover(); r != nil {
 			e = r.(api.Errno)
 		}
@@ -32,9 +39,9 @@ func modelDecode(s string) (out string, e api.Errno) {
 	}
 	m.fill()
 	if m.pos < 8*len(s) {
-		return "", api.ErrTrailing
+		return m, api.ErrTrailing
 	}
-	return "", api.OK
+	return m, api.OK
 }
 
 func (m *model) wrong(b bool) {
@@ -62,6 +69,7 @@ func (m *model) fill() {
 }
 
 func (m *model) block() bool {
+	m.begins = append(m.begins, m.pos)
 	last := m.number(1) == 1
 	switch m.number(2) {
 	case 0:
@@ -84,9 +92,11 @@ func (m *model) block() bool {
 	case 3:
 		n := m.number(8)
 		m.fill()
+		var b []byte
 		for range n {
-			m.number(8)
+			b = append(b, byte(m.number(8)))
 		}
+		m.notes = append(m.notes, string(b))
 	}
 	return last
 }

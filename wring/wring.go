@@ -4,6 +4,7 @@ package wring
 import (
 	"wring/api"
 	"wring/reader"
+	"wring/writer"
 )
 
 // Decoder reads a stream that comes in pieces.
@@ -13,7 +14,9 @@ type Decoder struct {
 }
 
 // Encoder makes a stream out of what is written.
-type Encoder struct{}
+type Encoder struct {
+	writer *writer.Writer // nil behind Finish: what it keeps is wanted no more
+}
 
 // Decode reads a stream (P2).
 func Decode(s string) (string, api.Errno) {
@@ -44,17 +47,47 @@ func (x *Decoder) Close() api.Errno {
 	return x.said
 }
 
-// NewEncoder makes an encoder (P4).
-func NewEncoder(window int, level int) (*Encoder, api.Errno) { return nil, api.OK }
+// NewEncoder makes an encoder (P4). All levels make the same stream so far.
+func NewEncoder(window int, level int) (*Encoder, api.Errno) {
+	if window < 0 || window > api.MaxWindow || level < 0 || level > api.MaxLevel {
+		return nil, api.ErrParam
+	}
+	return &Encoder{writer: writer.New(window)}, api.OK
+}
 
 // Write takes bytes (P5).
-func (x *Encoder) Write(s string) (string, api.Errno) { return "", api.OK }
+func (x *Encoder) Write(s string) (string, api.Errno) {
+	if x.writer == nil {
+		return "", api.ErrDone
+	}
+	return x.writer.Write(s), api.OK
+}
 
 // Flush lets everything out that was written (P5, P7).
-func (x *Encoder) Flush() (string, api.Errno) { return "", api.OK }
+func (x *Encoder) Flush() (string, api.Errno) {
+	if x.writer == nil {
+		return "", api.ErrDone
+	}
+	return x.writer.Flush(), api.OK
+}
 
 // Note lays a note into the stream (P5).
-func (x *Encoder) Note(s string) (string, api.Errno) { return "", api.OK }
+func (x *Encoder) Note(s string) (string, api.Errno) {
+	if x.writer == nil {
+		return "", api.ErrDone
+	}
+	if len(s) > api.MaxNote {
+		return "", api.ErrLong
+	}
+	return x.writer.Note(s), api.OK
+}
 
 // Finish ends the stream (P5, P6).
-func (x *Encoder) Finish() (string, api.Errno) { return "", api.OK }
+func (x *Encoder) Finish() (string, api.Errno) {
+	if x.writer == nil {
+		return "", api.ErrDone
+	}
+	out := x.writer.Finish()
+	x.writer = nil
+	return out, api.OK
+}
