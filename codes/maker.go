@@ -18,10 +18,24 @@ const (
 	stepTimes
 )
 
-// The numbers of the full form that are no lengths; beyond these there is 15, many zeros, the case that is left.
+// The numbers of the full form that are no lengths.
 const (
-	again    = 13
-	fewZeros = 14
+	again     = 13
+	fewZeros  = 14
+	manyZeros = 15
+)
+
+// How many lengths these tell at least.
+const (
+	againLeast = 3
+	fewLeast   = 3
+	manyLeast  = 11
+)
+
+// How many bits a symbol's number has.
+const (
+	lettersWidth   = 9
+	distancesWidth = 4
 )
 
 // Maker makes a code out of the numbers that tell it, one by one.
@@ -37,10 +51,10 @@ type Maker struct {
 }
 
 // Letters begins the letter code.
-func (m *Maker) Letters() { m.begin(api.Letters, 9) }
+func (m *Maker) Letters() { m.begin(api.Letters, lettersWidth) }
 
 // Distances begins the distance code.
-func (m *Maker) Distances() { m.begin(api.Far, 4) }
+func (m *Maker) Distances() { m.begin(api.Far, distancesWidth) }
 
 func (m *Maker) begin(size int, width int) {
 	m.size = size
@@ -64,7 +78,12 @@ func (m *Maker) Width() int {
 	case stepLength:
 		return 4
 	}
-	switch m.repeat {
+	return timesWidth(m.repeat)
+}
+
+// timesWidth tells how many bits say how many more lengths there are than a repeat tells at least.
+func timesWidth(repeat int) int {
+	switch repeat {
 	case again:
 		return 2
 	case fewZeros:
@@ -143,11 +162,11 @@ func (m *Maker) times(v int) int {
 	m.step = stepLength
 	switch m.repeat {
 	case again:
-		return m.lay(m.before(), 3+v)
+		return m.lay(m.before(), againLeast+v)
 	case fewZeros:
-		return m.lay(0, 3+v)
+		return m.lay(0, fewLeast+v)
 	}
-	return m.lay(0, 11+v)
+	return m.lay(0, manyLeast+v)
 }
 
 func (m *Maker) before() int {

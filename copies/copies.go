@@ -1,11 +1,22 @@
 // Package copies: what the symbols of a copy say of its length and its distance.
 package copies
 
+import "wring/api"
+
+// First is the first symbol of the letter code that is a copy.
+const First = 256
+
 // Near is how many of the last distances have symbols of their own.
 const Near = 4
 
+// How long a copy is.
+const (
+	Shortest = 3
+	Longest  = 520
+)
+
 // Length tells the least length of a copy, and how many bits more say what is added to it.
-// k is the copy's symbol less the 256 that are bytes.
+// k is the copy's symbol less First.
 func Length(k int) (int, int) {
 	if k < 8 {
 		return 3 + k, 0
@@ -19,6 +30,32 @@ func Distance(symbol int) (int, int) {
 		return 0, 0
 	}
 	return 1 << uint(symbol-Near), symbol - Near
+}
+
+// ForLength answers the k of a length.
+func ForLength(length int) int {
+	k := 0
+	for k < api.Letters-First-1 {
+		least, more := Length(k)
+		if length < least+1<<uint(more) {
+			return k
+		}
+		k++
+	}
+	return k
+}
+
+// ForDistance answers the symbol of a distance that is none of the last ones.
+func ForDistance(distance int) int {
+	symbol := Near
+	for symbol < api.Far-1 {
+		least, more := Distance(symbol)
+		if distance < least+1<<uint(more) {
+			return symbol
+		}
+		symbol++
+	}
+	return symbol
 }
 
 // Recent has the last distances of a stream, the last one first.
@@ -41,6 +78,16 @@ func (r *Recent) Use(symbol int) int {
 		r.Add(distance)
 	}
 	return distance
+}
+
+// Find answers the symbol of a distance, if it is one of the last ones.
+func (r *Recent) Find(distance int) (int, bool) {
+	for i := 0; i < Near; i++ {
+		if r.distances[i] == distance {
+			return i, true
+		}
+	}
+	return 0, false
 }
 
 // Add makes a distance the last one. It is not taken out where it stood before: the document lets it stand twice.

@@ -29,6 +29,44 @@ func TestDistance(t *testing.T) {
 	}
 }
 
+// TestForLength: each length has the one symbol that tells it.
+func TestForLength(t *testing.T) {
+	if least, more := Length(api.Letters - First - 1); least+1<<more-1 != Longest {
+		t.Errorf("the longest copy is %d", least+1<<more-1)
+	}
+	for length := Shortest; length <= Longest; length++ {
+		k := ForLength(length)
+		least, more := Length(k)
+		if k < 0 || k > 15 || length < least || length >= least+1<<more {
+			t.Errorf("ForLength(%d) = %d", length, k)
+		}
+	}
+}
+
+// TestForDistance: the same of distances.
+func TestForDistance(t *testing.T) {
+	for distance := 1; distance < api.MaxBlock; distance++ {
+		symbol := ForDistance(distance)
+		least, more := Distance(symbol)
+		if symbol < Near || symbol >= api.Far || distance < least || distance >= least+1<<more {
+			t.Errorf("ForDistance(%d) = %d", distance, symbol)
+		}
+	}
+}
+
+// TestFind: a distance that stands there twice has the first symbol.
+func TestFind(t *testing.T) {
+	r := NewRecent()
+	r.Add(9)
+	r.Add(1)
+	for distance, want := range map[int]int{1: 0, 9: 1, 2: 3, 3: -1, 0: -1, -1: -1, 10: -1} {
+		symbol, found := r.Find(distance)
+		if found != (want >= 0) || symbol != max(want, 0) {
+			t.Errorf("Find(%d) = %d, %v, want %d", distance, symbol, found, want)
+		}
+	}
+}
+
 func TestRecent(t *testing.T) {
 	r := NewRecent()
 	for _, c := range []struct {
@@ -62,5 +100,7 @@ func TestWrongSymbols(t *testing.T) {
 	for _, n := range []int{-1 << 40, -1, 16, 1 << 40} {
 		Length(n)
 		Distance(n)
+		ForLength(n)
+		ForDistance(n)
 	}
 }

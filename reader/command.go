@@ -2,16 +2,13 @@ package reader
 
 import "wring/copies"
 
-// bytesEnd is the first letter that is a copy.
-const bytesEnd = 256
-
 func (x *Reader) useLetter(symbol int) {
-	if symbol < bytesEnd {
+	if symbol < copies.First {
 		x.put(byte(symbol))
 		x.endCommand()
 		return
 	}
-	least, more := copies.Length(symbol - bytesEnd)
+	least, more := copies.Length(symbol - copies.First)
 	x.least = least
 	x.more = more
 	x.part = atLengthMore

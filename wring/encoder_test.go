@@ -1,6 +1,7 @@
 package wring_test
 
 import (
+	"bytes"
 	"math"
 	"math/rand"
 	"runtime"
@@ -17,6 +18,7 @@ type encoding struct {
 	t       *testing.T
 	x       *wring.Encoder
 	window  int
+	level   int
 	out     []byte
 	plain   []byte
 	notes   []string
@@ -29,7 +31,7 @@ func begin(t *testing.T, window int, level int) *encoding {
 	if x == nil || e != api.OK {
 		t.Fatalf("P4: NewEncoder(%d, %d): %d", window, level, e)
 	}
-	return &encoding{t: t, x: x, window: window}
+	return &encoding{t: t, x: x, window: window, level: level}
 }
 
 func (c *encoding) took(call string, out string, e api.Errno) string {
@@ -72,7 +74,7 @@ func (c *encoding) flush() string {
 	return out
 }
 
-// finish tests P6 and P8, and that the encoder is done.
+// finish tests P6, P8 and P9, and that the encoder is done.
 func (c *encoding) finish() string {
 	c.t.Helper()
 	out, e := c.x.Finish()
@@ -92,17 +94,37 @@ func (c *encoding) finish() string {
 	if !slices.Equal(m.notes, c.notes) {
 		c.t.Fatalf("P6: the notes %.80q are %.80q", c.notes, m.notes)
 	}
-	if len(s) > c.most() {
-		c.t.Fatalf("P8: %d bytes answered, at most %d (of %d, with %d flushes, %d notes)", len(s), c.most(), len(c.plain), c.flushes, len(c.notes))
+	if most, why := c.most(); len(s) > most {
+		c.t.Fatalf("%s: window %d, level %d: %d bytes answered, at most %d (of %d, with %d flushes, %d notes): %.40q", why, c.window, c.level, len(s), most, len(c.plain), c.flushes, len(c.notes), c.plain)
 	}
 	c.checkDone()
 	return out
 }
 
-func (c *encoding) most() int {
+// most tells how many bytes may be answered, and which promise says so.
+func (c *encoding) most() (int, string) {
 	n := len(c.plain)
-	b := (n + 4095) / 4096
-	return n + len(strings.Join(c.notes, "")) + 6*(b+c.flushes+len(c.notes)) + 8
+	parts := (n+4095)/4096 + c.flushes + len(c.notes)
+	rest := len(strings.Join(c.notes, "")) + 8
+	most, why := n+6*parts+rest, "P8"
+	p := period(c.plain)
+	if c.level > 0 && p == 1 && 12*parts+rest < most {
+		most, why = 12*parts+rest, "P9"
+	}
+	if c.level > 1 && p > 0 && 128*parts+rest < most {
+		most, why = 128*parts+rest, "P9"
+	}
+	return most, why
+}
+
+// period answers the least p of P9 from 1 to 16; 0, if there is none.
+func period(s []byte) int {
+	for p := 1; p <= 16; p++ {
+		if len(s) <= p || bytes.Equal(s[p:], s[:len(s)-p]) {
+			return p
+		}
+	}
+	return 0
 }
 
 // checkDone tests what is said behind Finish, in some orders of the calls.

@@ -16,6 +16,8 @@ type model struct {
 	last4  []int
 	notes  []string // those that are whole
 	begins []int    // the bits where blocks begin, or would begin
+	coded  int      // how many blocks are coded ones
+	copies int      // how many copies there are
 }
 
 // modelDecode is what Decode is measured by.
@@ -83,6 +85,7 @@ func (m *model) block() bool {
 			m.out = append(m.out, byte(m.number(8)))
 		}
 	case 2:
+		m.coded++
 		end := len(m.out) + m.number(12) + 1
 		letters := m.code(272, 9)
 		distances := m.code(16, 4)
@@ -193,6 +196,7 @@ func (m *model) command(letters map[string]int, distances map[string]int, end in
 		m.out = append(m.out, byte(s))
 		return
 	}
+	m.copies++
 	k := s - 256
 	n := []int{3, 4, 5, 6, 7, 8, 9, 10, 11, 13, 17, 25, 41, 73, 137, 265}[k]
 	n += m.number([]int{0, 0, 0, 0, 0, 0, 0, 0, 1, 2, 3, 4, 5, 6, 7, 8}[k])

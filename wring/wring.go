@@ -47,12 +47,12 @@ func (x *Decoder) Close() api.Errno {
 	return x.said
 }
 
-// NewEncoder makes an encoder (P4). All levels make the same stream so far.
+// NewEncoder makes an encoder (P4).
 func NewEncoder(window int, level int) (*Encoder, api.Errno) {
 	if window < 0 || window > api.MaxWindow || level < 0 || level > api.MaxLevel {
 		return nil, api.ErrParam
 	}
-	return &Encoder{writer: writer.New(window)}, api.OK
+	return &Encoder{writer: writer.New(window, level)}, api.OK
 }
 
 // Write takes bytes (P5).
